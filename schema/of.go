@@ -4,6 +4,7 @@ import (
 	"slices"
 
 	"caddis/api"
+	"caddis/own"
 	"caddis/stmt"
 )
 
@@ -28,7 +29,7 @@ func Of(s api.Stmt) (api.Table, api.Errno) {
 
 // placed is a create's table, with places where the statement has names.
 func placed(s api.Stmt) (api.Table, api.Errno) {
-	t := api.Table{Name: s.Table, Cols: slices.Clone(s.Cols), Check: copied(s.Check)}
+	t := api.Table{Name: s.Table, Cols: slices.Clone(s.Cols), Check: own.Expr(s.Check)}
 	e := api.OK
 	place := func(name string) int {
 		i := Place(t, name)
@@ -45,13 +46,4 @@ func placed(s api.Stmt) (api.Table, api.Errno) {
 		t.Refs = append(t.Refs, api.Foreign{Col: place(r.Col), Table: r.Table})
 	}
 	return t, e
-}
-
-// copied is the same expression in memory of its own.
-func copied(e api.Expr) api.Expr {
-	e.L = slices.Clone(e.L)
-	for i, part := range e.L {
-		e.L[i] = copied(part)
-	}
-	return e
 }
